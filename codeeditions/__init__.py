@@ -1,0 +1,1 @@
+"""A Code in editions: what's available, what's sure, what would settle it."""
