@@ -1,11 +1,14 @@
 """The calls on one object, one behind another in one list of whole numbers, and their answers."""
 
 from codeeditions.bounds import is_day
+from codeeditions.comparing import compare_answer, core_answer, editions_answer
 from codeeditions.conditions import reading_of
-from codeeditions.editions import edition_in_force
+from codeeditions.editions import editions_in_play
 from codeeditions.entry import add_edition, add_flag, add_name, add_rule, learn_fact
+from codeeditions.judging import changes_answer, list_answer, status_answer
 from codeeditions.records import Code
 from codeeditions.signs import row_of, signs_of
+from codeeditions.surely import settle_answer, sure_answer
 from codeeditions.writing import written_signs
 
 
@@ -56,13 +59,45 @@ def answer_facts(code, numbers, row):
 def answer_force(code, numbers, row):
     if not is_day(numbers[0]):
         return [-1]
-    edition = edition_in_force(code, numbers[0])
-    if edition is None:
+    in_play = editions_in_play(code, numbers[0])
+    if len(in_play) == 0:
         return [0]
-    return [edition.key]
+    return [in_play[0].key]
 
 
-# The next three go by the calls' numbers.
+def answer_status(code, numbers, row):
+    return status_answer(code, numbers[0], numbers[1])
+
+
+def answer_sure(code, numbers, row):
+    return sure_answer(code, numbers[0], numbers[1])
+
+
+def answer_settle(code, numbers, row):
+    return settle_answer(code, numbers[0], numbers[1], numbers[2])
+
+
+def answer_compare(code, numbers, row):
+    return compare_answer(code, numbers[0], numbers[1])
+
+
+def answer_editions(code, numbers, row):
+    return editions_answer(code, numbers[0], numbers[1])
+
+
+def answer_core(code, numbers, row):
+    return core_answer(code, numbers[0])
+
+
+def answer_list_of(code, numbers, row):
+    return list_answer(code, numbers[0], numbers[1])
+
+
+def answer_changes(code, numbers, row):
+    return changes_answer(code, numbers[0], numbers[1])
+
+
+# The next two go by the calls' numbers.
 CALLS = (
     answer_flag,
     answer_rule,
@@ -73,9 +108,18 @@ CALLS = (
     answer_learn,
     answer_facts,
     answer_force,
+    answer_status,
+    answer_sure,
+    answer_settle,
+    answer_compare,
+    answer_editions,
+    answer_core,
+    answer_list_of,
+    answer_changes,
 )
-WHOLE_NUMBERS = (1, 5, 1, 0, 3, 3, 3, 1, 1)
-WITH_ROW = (True, True, False, True, True, False, False, False, False)
+WHOLE_NUMBERS = (1, 5, 1, 0, 3, 3, 3, 1, 1, 2, 2, 3, 2, 2, 1, 2, 2)
+# flag, rule, form and edition.
+WITH_ROW = (0, 1, 3, 4)
 
 
 def answers(calls):
@@ -88,7 +132,7 @@ def answers(calls):
         end = at + 1 + WHOLE_NUMBERS[call]
         numbers = calls[at + 1:end]
         row = []
-        if WITH_ROW[call]:
+        if call in WITH_ROW:
             row = calls[end + 1:end + 1 + calls[end]]
             end += 1 + len(row)
         answer_call = CALLS[call]

@@ -1,10 +1,17 @@
-"""Which edition is in force."""
+"""Which editions are in play, which is in force, which are looked at for a name."""
 
 
-def edition_in_force(code, view):
-    """The latest edition whose day is not later than the view day; None if there's none."""
-    latest = None
-    for edition in code.editions.values():
-        if edition.day <= view and (latest is None or edition.day > latest.day):
-            latest = edition
-    return latest
+def editions_in_play(code, view):
+    """The editions whose day is not later than the view day, the latest first: so the one in force leads."""
+    found = [edition for edition in code.editions.values() if edition.day <= view]
+    return sorted(found, key=lambda edition: edition.day, reverse=True)
+
+
+def editions_looked_at(in_play, name):
+    """The editions in play that bear on a name: each that keeps lets the next earlier one speak too."""
+    looked_at = []
+    for edition in in_play:
+        looked_at.append(edition)
+        if edition.keeps == 0 or name.day >= edition.day:
+            break
+    return looked_at

@@ -44,7 +44,8 @@ def add_rule(code, key, first, last, lowest, highest, signs):
         return reading.refusal
     if len(code.rules) == MOST_RULES:
         return -5
-    code.rules[key] = Rule(first, last, lowest, highest, reading.steps)
+    flag_keys = [code.flag_keys[step[1]] for step in reading.steps if step[0] == "flag"]
+    code.rules[key] = Rule(first, last, lowest, highest, reading.steps, sorted(set(flag_keys)))
     return 0
 
 
@@ -104,8 +105,9 @@ def learn_fact(code, name_key, flag_key, value):
         return -2
     if value not in (0, 1):
         return -3
-    facts = code.names[name_key].facts
-    if flag_key in facts:
+    name = code.names[name_key]
+    if flag_key in name.facts:
         return -4
-    facts[flag_key] = value
+    name.facts[flag_key] = value
+    name.passings = {}
     return 0

@@ -2,12 +2,14 @@
 
 
 class Rule:
-    def __init__(self, first, last, lowest, highest, steps):
+    def __init__(self, first, last, lowest, highest, steps, flag_keys):
         self.first = first
         self.last = last
         self.lowest = lowest
         self.highest = highest
         self.steps = steps
+        # Of the flags that stand in the condition, ascending, each once.
+        self.flag_keys = flag_keys
 
 
 class Edition:
@@ -24,6 +26,8 @@ class Name:
         self.rank = rank
         # By flags' keys, 1 for yes and 0 for no.
         self.facts = {}
+        # By editions' keys, the values that are worked out already; only a new fact can change them.
+        self.passings = {}
 
 
 class Code:

@@ -56,6 +56,38 @@ def force(view):
     return [8, view]
 
 
+def status(name_key, view):
+    return [9, name_key, view]
+
+
+def sure(name_key, view):
+    return [10, name_key, view]
+
+
+def settle(name_key, view, want):
+    return [11, name_key, view, want]
+
+
+def compare(a, b):
+    return [12, a, b]
+
+
+def editions(a, b):
+    return [13, a, b]
+
+
+def core(key):
+    return [14, key]
+
+
+def list_of(wanted, view):
+    return [15, wanted, view]
+
+
+def changes(v, w):
+    return [16, v, w]
+
+
 def ask(*calls):
     """The answer of each of these calls, asked behind one another on one object."""
     whole = [number for call in calls for number in call]
@@ -78,6 +110,11 @@ def ask_last(*calls):
         if answer[0] < 0:
             raise AssertionError(f"{call} was refused with {answer}")
     return split[-1]
+
+
+def letter_flags(letters, first_key=1):
+    """A flag for each of these letters, by keys ascending."""
+    return [flag(first_key + place, letter) for place, letter in enumerate(letters)]
 
 
 def told(text):

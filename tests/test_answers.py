@@ -3,7 +3,8 @@
 import unittest
 
 from codeeditions.desk import answers
-from tests.helper import GREATEST_KEY, ask, edition, facts, flag, force, form, learn, name, rule, text_of
+from tests.helper import GREATEST_KEY, ask, changes, compare, core, edition, editions, facts, flag, force, form, learn
+from tests.helper import list_of, name, rule, settle, status, sure, text_of
 
 SESSION = [
     flag(3, "published"),
@@ -26,6 +27,20 @@ SESSION = [
     learn(20, 1, 1),
     facts(20),
     facts(21),
+    name(22, 800, 2),
+    name(21, 400, 5),
+    status(20, 1000),
+    status(22, 1000),
+    sure(22, 900),
+    settle(22, 1000, 1),
+    settle(22, 1000, 0),
+    compare(10, 11),
+    editions(7, 8),
+    core(7),
+    list_of(2, 1000),
+    changes(450, 1000),
+    settle(22, 1000, 2),
+    core(9),
 ]
 
 
@@ -54,6 +69,14 @@ class HowCallsAndAnswersLie(unittest.TestCase):
         calls += [6, 9, 5, 1]
         calls += [7, 9]
         calls += [8, 30]
+        calls += [9, 9, 30]
+        calls += [10, 9, 30]
+        calls += [11, 9, 30, 0]
+        calls += [12, 6, 6]
+        calls += [13, 2, 2]
+        calls += [14, 2]
+        calls += [15, 0, 30]
+        calls += [16, 7, 30]
         want = [1, 0]
         want += [1, 0]
         want += [6, 0, 110, 111, 116, 32, 97]
@@ -63,6 +86,32 @@ class HowCallsAndAnswersLie(unittest.TestCase):
         want += [1, 0]
         want += [3, 1, 5, 1]
         want += [1, 2]
+        want += [5, 0, 2, 1, 6, 0]
+        want += [1, 0]
+        want += [1, 0]
+        want += [1, 3]
+        want += [1, 3]
+        want += [2, 1, 6]
+        want += [2, 1, 9]
+        want += [4, 1, 9, 3, 0]
+        self.assertEqual(answers(calls), want)
+
+    def test_situations_and_pairs_written_out(self):
+        calls = [0, 5, 1, 97] + [0, 3, 1, 98]
+        calls += [1, 6, 0, 10, 0, 7, 1, 97] + [1, 7, 0, 10, 0, 7, 1, 98]
+        calls += [12, 6, 7]
+        calls += [4, 1, 20, 0, 2, 6, 7] + [4, 2, 30, 0, 0]
+        calls += [13, 1, 2]
+        calls += [5, 9, 8, 7]
+        calls += [11, 9, 20, 1]
+        calls += [9, 9, 20]
+        want = [1, 0] * 4
+        want += [9, 0, 0, 0, 1, 5, 0, 0, 1, 3]
+        want += [1, 0] * 2
+        want += [4, 1, 0, 0, 0]
+        want += [1, 0]
+        want += [5, 2, 3, 1, 5, 1]
+        want += [6, 2, 1, 0, 2, 6, 7]
         self.assertEqual(answers(calls), want)
 
     def test_one_refusal_of_each_written_out(self):
@@ -75,6 +124,14 @@ class HowCallsAndAnswersLie(unittest.TestCase):
         self.assertEqual(answers([6, 1, 1, 1]), [1, -1])
         self.assertEqual(answers([7, 1]), [1, -1])
         self.assertEqual(answers([8, -1]), [1, -1])
+        self.assertEqual(answers([9, 1, 1]), [1, -1])
+        self.assertEqual(answers([10, 1, 1]), [1, -1])
+        self.assertEqual(answers([11, 1, 1, 1]), [1, -1])
+        self.assertEqual(answers([12, 1, 1]), [1, -1])
+        self.assertEqual(answers([13, 1, 1]), [1, -1])
+        self.assertEqual(answers([14, 1]), [1, -1])
+        self.assertEqual(answers([15, 5, 1]), [1, -1])
+        self.assertEqual(answers([16, -1, 1]), [1, -1])
 
     def test_empty_rows_between_calls(self):
         self.assertEqual(ask(flag(1, ""), form(""), edition(1, 1, []), rule(1, ""), force(1)), [[-2], [-1000], [0], [-1000], [1]])
@@ -94,14 +151,18 @@ class HowCallsAndAnswersLie(unittest.TestCase):
         want += [[0]] * 5
         want += [[2, 1, 0, 3, 1], [0], [8], [7], [-4]]
         want.append([0] + list(b"published and (typed or before 2000)"))
-        want += [[-4], [2, 1, 0, 3, 1], [-1]]
+        want += [[-4], [2, 1, 0, 3, 1], [-1], [0], [0]]
+        want += [[1, 7, 0, 0], [2, 7, 0, 1, 10], [2], [1, 3, 1], [1, 3, 0]]
+        want += [[1, 0, 0, 0], [3], [1, 10]]
+        want += [[2, 21, 22], [3, 20, 3, 1, 21, 4, 2, 22, 3, 2], [-5], [-1]]
         self.assertEqual(ask(*SESSION), want)
 
     def test_one_key_may_be_one_of_each(self):
         for key in (1, GREATEST_KEY):
             calls = [flag(key, "a"), rule(key, "a"), edition(key, 0, [key]), name(key), learn(key, key, 1)]
-            asked = [text_of(key), force(0), facts(key)]
-            self.assertEqual(ask(*calls, *asked), [[0]] * 5 + [[0, 97], [key], [1, key, 1]])
+            asked = [text_of(key), force(0), facts(key), status(key, 0), sure(key, 0), compare(key, key), core(key)]
+            want = [[0, 97], [key], [1, key, 1], [1, key, 0, 0], [1], [3], [1, key]]
+            self.assertEqual(ask(*calls, *asked), [[0]] * 5 + want)
 
 
 class NothingIsChangedOrKept(unittest.TestCase):

@@ -1,10 +1,12 @@
-"""The form of the package's files, as far as ../shared/LANGUAGE.md can be checked by a walk over the code."""
+"""The form of the package's files: what ../shared/LANGUAGE.md asks, as far as a walk over the code can tell."""
 
 import ast
 import builtins
 import pathlib
 import re
 import unittest
+
+from tests.language import faults
 
 PACKAGE = pathlib.Path(__file__).resolve().parent.parent / "codeeditions"
 
@@ -170,6 +172,66 @@ class Code(unittest.TestCase):
         for path, node in nodes(ast.Call):
             if isinstance(node.func, ast.Attribute):
                 self.assertIn(node.func.attr, METHODS + methods, where(path, node))
+
+
+class RuleByRule(unittest.TestCase):
+    def test_the_package_keeps_to_them(self):
+        for path in files():
+            self.assertEqual(faults(path.read_text("ascii")), [], path.name)
+
+    def assert_found(self, source, rule):
+        self.assertIn(rule, [found for found, line in faults(source)], source)
+
+    def in_function(self, *lines):
+        return "def work(xs, d):\n" + "".join(["    " + line + "\n" for line in lines])
+
+    def test_what_stands_at_the_top(self):
+        self.assert_found("print(5)\n", "L3")
+        self.assert_found("A = len(())\n", "L3")
+        self.assert_found("A = 5\nfrom codeeditions.desk import answers\n", "L2")
+        self.assert_found(self.in_function("from codeeditions.desk import answers"), "L2")
+        self.assert_found("A = [[1], [2]]\n", "L15")
+        self.assert_found("A = {}\n" + self.in_function("A[xs] = 5"), "L15")
+        self.assert_found("A = []\n" + self.in_function("A.append(xs)"), "L15")
+        self.assert_found("A = []\n" + self.in_function("return A"), "L15")
+        self.assert_found(self.in_function("class Inner:", "    pass"), "L15")
+        self.assertEqual(faults("A = (1, 2)\nB = {1: 2}\n" + self.in_function("return A[0] + B[1] + len(B)")), [])
+
+    def test_functions_and_classes(self):
+        self.assert_found("def work(xs=len):\n    return xs\n", "L4")
+        self.assert_found("def work(x: int):\n    return x\n", "L21")
+        self.assert_found("def work(x) -> int:\n    return x\n", "L21")
+        self.assert_found("def _work(x):\n    return x\n", "L12")
+        self.assert_found("class A:\n    def __init__(self):\n        return None\n", "L28")
+        self.assert_found("class A:\n    def __add__(self, other):\n        return self\n", "L28")
+        self.assert_found("class A:\n    pass\n\n\ndef work(x):\n    return [A, x]\n", "L18")
+        self.assert_found(self.in_function("return (lambda a: a, lambda a: 1)"), "L13")
+
+    def test_statements_and_operators(self):
+        self.assert_found(self.in_function("a, b = xs", "return a"), "L6")
+        self.assert_found(self.in_function("return {1, 2}"), "L7")
+        self.assert_found(self.in_function("return [*xs]"), "L7")
+        self.assert_found(self.in_function("return f'{xs[0]}'"), "L7")
+        self.assert_found(self.in_function("raise ValueError(xs)"), "L19")
+        self.assert_found(self.in_function("return xs is d"), "L20")
+        self.assert_found(self.in_function("return 2 ** xs"), "L27")
+        self.assertEqual(faults(self.in_function("return 2 ** 64 if xs is None else 1 << d")), [])
+
+    def test_python_s_own(self):
+        self.assert_found(self.in_function("size = len", "return size(xs)"), "L22")
+        self.assert_found(self.in_function("return sorted(xs, reverse=d)"), "L22")
+        self.assert_found(self.in_function("return int(xs, base=d)"), "L22")
+        self.assert_found(self.in_function("ranks = range(8)", "return ranks"), "L23")
+        self.assert_found(self.in_function("return d.items()"), "L23")
+        self.assert_found(self.in_function("return list(zip(xs, range(5)))"), "L23")
+        self.assert_found(self.in_function("for x in xs:", "    xs.append(x)"), "L23")
+        self.assert_found(self.in_function("for x in d:", "    d[x] = 5"), "L23")
+        self.assert_found(self.in_function("for k, x in enumerate(xs):", "    xs[k] = 5"), "L23")
+        self.assert_found(self.in_function("for x in set(xs):", "    d.append(x)"), "L24")
+        self.assert_found(self.in_function("seen = set(xs)", "return seen"), "L24")
+        self.assert_found(self.in_function("push = xs.append", "push(d)"), "L25")
+        self.assertEqual(faults(self.in_function("for x in list(d):", "    d[x] = len(set(xs))")), [])
+        self.assertEqual(faults(self.in_function("return sorted(set(xs)) + [k for k, x in zip(d.items(), xs)]")), [])
 
 
 if __name__ == "__main__":
